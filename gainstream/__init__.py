@@ -1,0 +1,1 @@
+"""Gainstream: goods that grow and dwindle on their ways."""
