@@ -79,8 +79,17 @@ def in_lowest_terms(top, bottom):
     return made
 
 
+# The sum is cleared once, at the end: only what two bottoms have in common
+# can cancel, and all of that is in shared.
 def total(some):
-    result = Fraction(0)
+    top = 0
+    bottom = 1
+    shared = 1
     for number in some:
-        result = result.plus(number)
-    return result
+        common = divisor(bottom, number.bottom)
+        own = number.bottom // common
+        top = top * own + number.top * (bottom // common)
+        bottom = bottom * own
+        shared = shared * (common // divisor(shared, common))
+    left = divisor(top, shared)
+    return in_lowest_terms(top // left, bottom // left)

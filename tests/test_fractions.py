@@ -254,6 +254,15 @@ class Totals(Asking):
         self.assertEqual(math.gcd(told.top, told.bottom), 1)
         self.assertGreater(told.bottom, 0)
 
+    def test_of_bottoms_with_much_in_common(self):
+        chance = random.Random(8)
+        for again in range(400):
+            bottoms = chance.choice([[2, 4, 8, 16], [1, 2, 3, 4, 6, 9, 12, 18, 36], [6, 10, 15, 30, 210]])
+            some = [Fraction(chance.randint(-9, 9), chance.choice(bottoms)) for k in range(chance.randint(0, 12))]
+            self.is_like(total(some), sum([plain(number) for number in some]))
+            other = [Fraction(-number.top, number.bottom) for number in some]
+            self.is_fraction(total(some + other[::-1]), 0, 1)
+
     def test_the_list_stays(self):
         some = [Fraction(1, 2), Fraction(1, 3), Fraction(1, 2)]
         kept = list(some)

@@ -1,0 +1,132 @@
+"""What several files of tests share: short ways to write numbers, nets and plans.
+
+What the program tells is looked at with Python's own fractions: the sums here
+draw nothing from the program but the names and fields of its objects.
+"""
+
+import fractions
+import random
+
+from gainstream.fractions import Fraction
+from gainstream.nets import Net
+from gainstream.ways import Growing, Leaking, Way
+
+LONG = Fraction(10 ** 59 + 7, 10 ** 59 + 9)
+
+
+def num(text):
+    number = fractions.Fraction(text)
+    return Fraction(number.numerator, number.denominator)
+
+
+def plain(number):
+    assert type(number) is Fraction
+    return fractions.Fraction(number.top, number.bottom)
+
+
+def plains(numbers):
+    if isinstance(numbers, dict):
+        return {name: plain(number) for name, number in numbers.items()}
+    return [plain(number) for number in numbers]
+
+
+# "w 1/2, v -3" tells a plan, and any other dict of numbers.
+def plan_of(text):
+    return {name: num(number) for name, number in [row.split() for row in text.split(",") if row.strip()]}
+
+
+def shown(numbers):
+    if isinstance(numbers, dict):
+        return {name: number.shown() for name, number in numbers.items()}
+    return [number.shown() for number in numbers]
+
+
+# "w a b 1/2 7 -3": name, start, goal, gain, high (- for none), cost; from the gain on each may be left out.
+def way_of(row):
+    words = row.split()
+    gain, high, cost = (words[3:] + ["1", "-", "0"][len(words) - 3:])
+    return Growing(words[0], words[1], words[2], num(gain), None if high == "-" else num(high), num(cost))
+
+
+def ways_of(text):
+    return [way_of(row) for row in text.split(",") if row.strip()]
+
+
+# "a, b -3": a place without a want wants nought.
+def places_of(text):
+    rows = [row.split() for row in text.split(",") if row.strip()]
+    return [(row[0], num(row[1]) if len(row) > 1 else Fraction(0)) for row in rows]
+
+
+def net_of(places, ways=""):
+    return Net(places_of(places), ways_of(ways))
+
+
+def plain_gain(way):
+    if isinstance(way, Growing):
+        return plain(way.rate)
+    if isinstance(way, Leaking):
+        return 1 - plain(way.loss)
+    assert type(way) is Way
+    return fractions.Fraction(1)
+
+
+def plain_wants(net):
+    return {name: plain(net.want(name)) for name in net.names()}
+
+
+def plain_sums(net, amounts):
+    result = {place: fractions.Fraction(0) for place in net.names()}
+    for name, amount in amounts.items():
+        way = net.way(name)
+        result[way.start] -= amount
+        result[way.goal] += amount * plain_gain(way)
+    return result
+
+
+def plain_worth(net, amounts):
+    return sum([amount * plain(net.way(name).cost) for name, amount in amounts.items()], fractions.Fraction(0))
+
+
+# All that can be seen of a net from outside.
+def look_of(net):
+    ways = [(type(way), way.name, way.start, way.goal, way.high and way.high.shown(), way.cost.shown(),
+             plain_gain(way)) for way in net.all_ways()]
+    return ([(name, net.want(name).shown()) for name in net.names()], ways)
+
+
+def long_number(chance, figures=60):
+    least = 10 ** (figures - 1)
+    return Fraction(chance.randrange(least, 10 * least), chance.randrange(least, 10 * least))
+
+
+def small_number(chance, low, high):
+    return Fraction(chance.randint(low, high), chance.choice([1, 1, 1, 2, 3]))
+
+
+# A net by chance: gains are often ones whose products come to just 1.
+def chance_net(chance, places, ways, highs=0.5, wants=(-4, 3), costs=(-1, 4)):
+    names = ["p" + str(i) for i in range(places)]
+    gains = ["1", "1", "2", "1/2", "3/2", "2/3", "3", "1/3"]
+    made = []
+    for i in range(ways if places > 1 else 0):
+        start, goal = chance.sample(names, 2)
+        high = small_number(chance, 0, 6) if chance.random() < highs else None
+        made.append(Growing("w" + str(i), start, goal, num(chance.choice(gains)), high, small_number(chance, *costs)))
+    return Net([(name, small_number(chance, *wants)) for name in names], made)
+
+
+def long_net(chance, places=12, ways=24, highs=0.5, figures=60):
+    names = ["p" + str(i) for i in range(places)]
+    made = []
+    for i in range(ways):
+        start, goal = chance.sample(names, 2)
+        high = long_number(chance, figures) if chance.random() < highs else None
+        cost = long_number(chance, figures)
+        made.append(Growing("w" + str(i), start, goal, long_number(chance, figures), high, cost))
+    wants = [long_number(chance, figures).times(Fraction(chance.choice([-9, -3, 0, 0, 1]))) for name in names]
+    return Net(list(zip(names, wants)), made)
+
+
+def chances(seeds):
+    return [random.Random(seed) for seed in range(seeds)]
