@@ -130,3 +130,87 @@ def long_net(chance, places=12, ways=24, highs=0.5, figures=60):
 
 def chances(seeds):
     return [random.Random(seed) for seed in range(seeds)]
+
+
+# None where the names are no walk.
+def plain_places(net, walk):
+    ways = {way.name: way for way in net.all_ways()}
+    if any(name not in ways for name in walk):
+        return None
+    if any(ways[one].goal != ways[two].start for one, two in zip(walk, walk[1:])):
+        return None
+    return [ways[name].start for name in walk[:1]] + [ways[name].goal for name in walk]
+
+
+def plain_walk_gain(net, walk):
+    gain = fractions.Fraction(1)
+    for name in walk:
+        gain *= plain_gain(net.way(name))
+    return gain
+
+
+def is_plain_ring(net, walk):
+    places = plain_places(net, walk)
+    return bool(places) and places[0] == places[-1] and len(set(places)) == len(walk)
+
+
+# "round", "road", or None for what is no strand.
+def strand_kind(net, strand):
+    head, path, tail, amount = strand
+    parts = [plain_places(net, walk) for walk in (head, path, tail)]
+    if None in parts or plain(amount) <= 0 or not any(parts):
+        return None
+    if head and not is_plain_ring(net, head) or tail and not is_plain_ring(net, tail):
+        return None
+    if head and not path and not tail and plain_walk_gain(net, head) == 1:
+        return "round"
+    if head and plain_walk_gain(net, head) <= 1 or tail and plain_walk_gain(net, tail) >= 1:
+        return None
+    if len(set(parts[1])) < len(parts[1]):
+        return None
+    met = [places for places in parts if places]
+    return "road" if all(one[-1] == two[0] for one, two in zip(met, met[1:])) else None
+
+
+def send_plainly(net, walk, amount, plan):
+    for name in walk:
+        plan[name] = plan.get(name, 0) + amount
+        amount *= plain_gain(net.way(name))
+    return amount
+
+
+def plain_strand_plan(net, strand):
+    head, path, tail, amount = strand
+    going = plain(amount)
+    plan = {}
+    if strand_kind(net, strand) == "round":
+        send_plainly(net, head, going, plan)
+        return plan
+    if head:
+        send_plainly(net, head, going / (plain_walk_gain(net, head) - 1), plan)
+    going = send_plainly(net, path, going, plan)
+    if tail:
+        send_plainly(net, tail, going / (1 - plain_walk_gain(net, tail)), plan)
+    return plan
+
+
+# The places where a road begins and ends.
+def ends_of(net, strand):
+    places = [place for walk in strand[:3] for place in plain_places(net, walk)]
+    return places[0], places[-1]
+
+
+# All rings of the net's ways, each told from one of its places alone.
+def all_rings(net, names):
+    found = []
+    waiting = [[name] for name in sorted(set(names))]
+    while waiting:
+        walk = waiting.pop()
+        places = plain_places(net, walk)
+        if places[0] == places[-1]:
+            if places[0] == min(places):
+                found.append(walk)
+        elif len(set(places)) == len(places):
+            onward = [name for name in sorted(set(names)) if net.way(name).start == places[-1]]
+            waiting.extend([walk + [name] for name in onward])
+    return [walk for walk in found if is_plain_ring(net, walk)]
