@@ -214,3 +214,129 @@ def all_rings(net, names):
             onward = [name for name in sorted(set(names)) if net.way(name).start == places[-1]]
             waiting.extend([walk + [name] for name in onward])
     return [walk for walk in found if is_plain_ring(net, walk)]
+
+
+# The plan meets the net, and names just the ways whose amount isn't nought.
+def meets(net, plan):
+    amounts = plains(plan)
+    come = plain_sums(net, amounts)
+    for name, amount in amounts.items():
+        high = net.way(name).high
+        assert amount > 0, "an amount that isn't above nought"
+        assert high is None or amount <= plain(high), "an amount above its high"
+    for place, want in plain_wants(net).items():
+        assert come[place] >= want, "a want that isn't met"
+    return come
+
+
+def weighed(net, prices, bounds):
+    highs = {way.name: plain(way.high) for way in net.all_ways() if way.high is not None}
+    assert set(prices) == set(net.names()), "other places than the net's"
+    assert set(bounds) == set(highs), "other ways than those with a high"
+    assert min([0] + list(prices.values()) + list(bounds.values())) >= 0, "something under nought"
+    wanted = sum([want * prices[place] for place, want in plain_wants(net).items()])
+    return wanted - sum([high * bounds[name] for name, high in highs.items()])
+
+
+# What the ways earn at most by the prices, beyond what is told for each.
+def earns_no_more(net, prices, bounds, costs):
+    for way in net.all_ways():
+        earned = plain_gain(way) * prices[way.goal] - prices[way.start] - bounds.get(way.name, 0)
+        assert earned <= costs[way.name], "a way earns too much"
+
+
+def is_lack(net, answer):
+    weights, bounds = plains(answer[1]), plains(answer[2])
+    assert weighed(net, weights, bounds) > 0, "a lack that weighs nothing"
+    earns_no_more(net, weights, bounds, {way.name: 0 for way in net.all_ways()})
+
+
+def is_endless(net, answer):
+    meets(net, answer[1])
+    assert type(answer[2]) is tuple and strand_kind(net, answer[2]), "no strand"
+    assert answer[2][0] != [], "no head"
+    assert all(net.way(name).high is None for walk in answer[2][:3] for name in walk), "a way with a high"
+    return plain_strand_plan(net, answer[2])
+
+
+# Looks at the answer by all that is told of it, and tells its word and worth.
+def looked_cheapest(net, answer):
+    assert type(answer) is tuple
+    if answer[0] == "lack":
+        is_lack(net, answer)
+        return "lack", None
+    if answer[0] == "endless":
+        assert plain_worth(net, is_endless(net, answer)) < 0, "a strand that costs something"
+        return "endless", None
+    word, plan, prices, bounds = answer
+    assert word == "plan"
+    meets(net, plan)
+    prices, bounds = plains(prices), plains(bounds)
+    worth = plain_worth(net, plains(plan))
+    assert weighed(net, prices, bounds) == worth, "another worth"
+    earns_no_more(net, prices, bounds, {way.name: plain(way.cost) for way in net.all_ways()})
+    return "plan", worth
+
+
+def looked_most(net, place, answer):
+    assert type(answer) is tuple
+    if answer[0] == "lack":
+        is_lack(net, answer)
+        return "lack", None
+    if answer[0] == "endless":
+        assert plain_sums(net, is_endless(net, answer))[place] > 0, "a strand that brings nothing"
+        return "endless", None
+    word, amount, plan, prices, bounds = answer
+    assert word == "most"
+    assert meets(net, plan)[place] == plain(amount), "another amount"
+    prices, bounds = plains(prices), plains(bounds)
+    assert weighed(net, prices, bounds) == -plain(amount), "another amount by the prices"
+    prices[place] += 1
+    earns_no_more(net, prices, bounds, {way.name: 0 for way in net.all_ways()})
+    return "most", plain(amount)
+
+
+# The same net with its places and ways told in another order.
+def shuffled(chance, net):
+    places = [(name, net.want(name)) for name in net.names()]
+    ways = net.all_ways()
+    chance.shuffle(places)
+    chance.shuffle(ways)
+    return Net(places, ways)
+
+
+# Nets with something in them that an answer may stumble over; by name.
+def odd_nets():
+    return {
+        "nothing": net_of(""),
+        "places alone": net_of("a, b -3"),
+        "a place that wants": net_of("a 1"),
+        "a want that can't be met": net_of("a -1, b 3", "w a b 2"),
+        "a bound that is just enough": net_of("a -9, b 6", "w a b 2 3 1"),
+        "a bound that is just not enough": net_of("a -9, b 6000001/1000000", "w a b 2 3 1"),
+        "a bound of nought": net_of("a -9, b 1", "w a b 2 0 1"),
+        "two bounds": net_of("a -9, b 6", "w a b 1 2 1, v a b 3 1 9, u a b 1 7 3"),
+        "costs under nought": net_of("a -5, b, c 1", "w a b 1 - -1, v b c 1/2 - 1, u a c 1 - -3"),
+        "a bounded way under nought": net_of("a -5, b", "w a b 1 2 -3"),
+        "a making ring": net_of("a, b", "w a b 2, v b a"),
+        "a making ring that earns": net_of("a, b", "w a b 2 - 1, v b a 1 - -1"),
+        "a making ring that costs": net_of("a, b, c 5", "w a b 2 - 1, v b a, u a c 1 - -1/9"),
+        "a making ring with a bound": net_of("a, b, c 5", "w a b 2 7 1, v b a, u a c 1 - -9"),
+        "an eating ring": net_of("a -3, b", "w a b 1/2 - -1, v b a 1 - -1"),
+        "an eating ring without end": net_of("a, b", "w a b 1/2 - -1, v b a 1 - -1"),
+        "from making to eating": net_of("a, b, c, d", "w a b 2, v b a, u b c 3, t c d 1/2, s d c 1 - -1"),
+        "from making to eating, bounded": net_of("a, b, c, d", "w a b 2, v b a, u b c 3 8, t c d 1/2, s d c 1 - -1"),
+        "from making to a round": net_of("a, b, c, d", "w a b 2, v b a, u b c 3, t c d 5, s d c 1/5 - 0"),
+        "to a round that earns": net_of("a, b, c, d", "w a b 2 - 9, v b a, u b c 3, t c d 5, s d c 1/5 - -1"),
+        "a round that earns": net_of("a, b", "w a b 2 - 1, v b a 1/2 - -2/3"),
+        "a round that costs nothing": net_of("a, b", "w a b 2 - 1, v b a 1/2 - -1/2"),
+        "a round that costs": net_of("a, b", "w a b 2 - 1, v b a 1/2 - -1/3"),
+        "a round that earns with a bound": net_of("a, b", "w a b 2 3 1, v b a 1/2 - -2/3"),
+        "rings that meet": net_of("a, b, c", "w a b 2 - 1, v b a, u b c 1 - -9, t c b 1/2"),
+        "a lack with endless rings": net_of("a, b, c 1", "w a b 2 - -1, v b a"),
+        "ways beside each other": net_of("a -9, b 4", "w a b 1 1 1, v a b 1 1 2, u a b 1 - 3, t a b 1 1 0"),
+        "wants of all kinds": net_of("a -1/3, b 2/7, c -1", "w a b 1/2 - 1, v c b 1/2 - 3, u c a 2 - 1"),
+        "just what is there": net_of("a -2, b 1, c 1", "w a b, v a c 1/2 - 1, u b c"),
+        "more than is there": net_of("a -2, b 1, c 1000001/1000000", "w a b, v a c 1/2 - 1, u b c"),
+        "names alike": net_of("a -2, b 1", "a a b 1 - 1, b b a 1 1 1"),
+    }
