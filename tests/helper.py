@@ -296,6 +296,17 @@ def looked_most(net, place, answer):
     return "most", plain(amount)
 
 
+# An answer, or any part of it, with its numbers as texts.
+def look_of_answer(one):
+    if isinstance(one, Fraction):
+        return one.shown()
+    if isinstance(one, dict):
+        return [(name, look_of_answer(inner)) for name, inner in one.items()]
+    if isinstance(one, (list, tuple)):
+        return [look_of_answer(inner) for inner in one]
+    return one
+
+
 # The same net with its places and ways told in another order.
 def shuffled(chance, net):
     places = [(name, net.want(name)) for name in net.names()]
