@@ -8,7 +8,8 @@ from gainstream.errors import GainError, NoPlace, NoRow, NoWay, TooMany
 from gainstream.nets import Net
 from gainstream.texts import read_fraction
 
-from helper import chances, look_of, looked_cheapest, looked_most, num, plain_gain, plain_sums, plain_worth, plains, shown
+from helper import chances, look_of, looked_cheapest, looked_most, num, plain_gain, plain_sums, plain_worth, plains, \
+    shown
 
 START = ["place a -10", "place b 0", "place c 3", "way w a b 2 4 1", "way v b c 1/2 - 0", "way u a c 1 5/2 2"]
 
@@ -136,8 +137,8 @@ class Rows(Asking):
 
     def test_sum_and_cost(self):
         desk = told_desk()
-        self.says(desk, [("send w 3", "ok"), ("send v 4", "ok"), ("send u 1/2", "ok"), ("sum a", "-7/2"), ("sum b", "2"),
-                         ("sum c", "5/2"), ("cost", "4")])
+        self.says(desk, [("send w 3", "ok"), ("send v 4", "ok"), ("send u 1/2", "ok"), ("sum a", "-7/2"),
+                         ("sum b", "2"), ("sum c", "5/2"), ("cost", "4")])
         self.says(desk, [("way u a c 1/3 - -2/3", "ok"), ("cost", "8/3"), ("sum c", "13/6")])
 
     def test_look(self):
@@ -216,8 +217,9 @@ class Answers(Asking):
 
     def test_rows_that_leave_the_prices(self):
         desk = told_desk()
-        self.says(desk, [("most c", "most 13/2"), ("send w 1/2", "ok"), ("bound w", "1"), ("price c", "0"), ("look", "place b"),
-                         ("bound w", "1"), ("cost", "11/2"), ("sum a", "-3"), ("amount w", "1/2"), ("bound u", "1")])
+        self.says(desk, [("most c", "most 13/2"), ("send w 1/2", "ok"), ("bound w", "1"), ("price c", "0"),
+                         ("look", "place b"), ("bound w", "1"), ("cost", "11/2"), ("sum a", "-3"),
+                         ("amount w", "1/2"), ("bound u", "1")])
         self.refused(NoRow, desk, "place a x")
         self.refused(NoPlace, desk, "way x a z 1 - 0", "z")
         self.says(desk, [("bound w", "1")])

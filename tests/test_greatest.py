@@ -1,5 +1,6 @@
 """Points 25 and 28, and what point 2 says of them."""
 
+import signal
 import unittest
 
 from gainstream.fractions import Fraction
@@ -99,9 +100,9 @@ class Plainly(Asking):
     def test_one_unknown(self):
         for row, bound, gain, wanted in [
             ("2", "3", "5", ("best", "15/2")), ("2", "3", "-5", ("best", "0")), ("2", "-3", "5", ("none", None)),
-            ("-2", "3", "5", ("endless", None)), ("-2", "-3", "-5", ("best", "-15/2")), ("0", "0", "1", ("endless", None)),
-            ("0", "-1", "1", ("none", None)), ("0", "1", "-1", ("best", "0")), ("2", "0", "7", ("best", "0")),
-            ("-2", "-3", "0", ("best", "0")), ("-2", "-3", "1", ("endless", None)),
+            ("-2", "3", "5", ("endless", None)), ("-2", "-3", "-5", ("best", "-15/2")),
+            ("0", "0", "1", ("endless", None)), ("0", "-1", "1", ("none", None)), ("0", "1", "-1", ("best", "0")),
+            ("2", "0", "7", ("best", "0")), ("-2", "-3", "0", ("best", "0")), ("-2", "-3", "1", ("endless", None)),
         ]:
             self.assertEqual(self.looked([numbers_of(row)], numbers_of(bound), numbers_of(gain)), wanted)
 
@@ -110,7 +111,8 @@ class Plainly(Asking):
         self.assertEqual(told, ("best", "-5"))
         told = self.looked(rows_of("-1 0, 0 -1, 1 1"), numbers_of("-1/2 -2/3 7/6"), numbers_of("1 9"))
         self.assertEqual(told, ("best", "13/2"))
-        self.assertEqual(self.looked(rows_of("-1 0, 0 -1, 1 1"), numbers_of("-1/2 -2/3 1"), numbers_of("1 9"))[0], "none")
+        told = self.looked(rows_of("-1 0, 0 -1, 1 1"), numbers_of("-1/2 -2/3 1"), numbers_of("1 9"))
+        self.assertEqual(told, ("none", None))
         told = self.looked(rows_of("-1 -1, -2 -2"), numbers_of("-3 -6"), numbers_of("-1 -2"))
         self.assertEqual(told, ("best", "-3"))
 
@@ -143,6 +145,16 @@ class Plainly(Asking):
 
 # Choices that are as good as one another, so that careless exchanges would go round without end.
 class Ties(Asking):
+    def setUp(self):
+        signal.signal(signal.SIGALRM, self.goes_round)
+        signal.alarm(60)
+
+    def tearDown(self):
+        signal.alarm(0)
+
+    def goes_round(self, number, frame):
+        self.fail("it goes round without end")
+
     def test_known_rounds(self):
         told = self.looked(rows_of("1/4 -60 -1/25 9, 1/2 -90 -1/50 3, 0 0 1 0"), numbers_of("0 0 1"),
                            numbers_of("3/4 -150 1/50 -6"))
@@ -155,6 +167,23 @@ class Ties(Asking):
         told = self.looked(rows_of("1/4 -8 -1 9, 1/2 -12 -1/2 3, 0 0 1 0"), numbers_of("0 0 1"),
                            numbers_of("3/4 -20 1/2 -6"))
         self.assertEqual(told, ("best", "5/4"))
+
+    # With these it goes round without end where the greatest number in the row is always what comes in.
+    def test_rounds_of_the_greatest_numbers(self):
+        for rows, gains, wanted in [
+            ("-1 -4 9 6 -18 -1, -5 -1 8 5 -5 -10, -2 6 0 -2 -5 -11, 0 -6 -11 10 -4 0", "-4 -6 -54 20 -50 -113", "best"),
+            ("-1 1 8 2 -55 -1, -2 -10 35 7 -24 -6, 1 10 -1 -21 -5 9, 6 -18 0 -1 -11 12", "10 -44 7 5 -69 6", "endless"),
+            ("0 1 -4 2 -2 2, 1 -2 -21 -1 7 11, 16 -3 -1 -5 3 304", "57 3 -27 -52 -21 204", "endless"),
+        ]:
+            rows = rows_of(rows)
+            self.assertEqual(self.looked(rows, [Fraction(0)] * len(rows), numbers_of(gains))[0], wanted)
+
+    def test_rounds_ahead_of_the_first_fitting_values(self):
+        for rows in ["7 -9 -6 22 -12 -5, 0 2 -5 9 10 -5, -62 -13 5 5 -11 15, -4 -1 1 -1 5 17",
+                     "-37 0 -15 -3 21, 1 -6 -14 5 -7, -3 -2 23 -6 -204, 0 -1 3 5 13, -2 0 1 1 6"]:
+            rows = rows_of(rows)
+            gains = [Fraction(0)] * len(rows[0])
+            self.assertIn(self.looked(rows, [Fraction(-1)] * len(rows), gains)[0], ["best", "none"])
 
     def test_all_bounds_nought(self):
         seen = []

@@ -10,8 +10,8 @@ from gainstream.plans import checked
 from gainstream.turns import by_turns, turned
 from gainstream.ways import Growing, Leaking, Store, Way
 
-from helper import LONG, chance_net, chances, long_number, look_of, net_of, num, plain, plain_gain, plain_sums, plains, \
-    plan_of, shown, small_number
+from helper import LONG, chance_net, chances, long_number, look_of, net_of, num, plain, plain_gain, plain_sums, \
+    plains, plan_of, shown, small_number
 
 NET = net_of("a -1, b 2", "w a b 2 4 1, v b a 1/3")
 
@@ -252,7 +252,7 @@ class ByTurns(unittest.TestCase):
     def test_by_chance(self):
         for chance in chances(60):
             net = chance_net(chance, chance.randint(1, 3), chance.randint(0, 4))
-            some = [Store("s" + str(i), chance.choice(net.names()), Fraction(chance.randint(0, 3), 4)) for i in range(2)]
+            some = [Store(name, chance.choice(net.names()), Fraction(chance.randint(0, 3), 4)) for name in "sr"]
             wants = [{name: small_number(chance, -4, 4) for name in net.names() if chance.random() < 0.5}
                      for turn in range(chance.randint(1, 4))]
             names = [way.name for way in turned(net, some, wants).all_ways()]

@@ -108,6 +108,12 @@ class PathsAndRings(Asking):
         for text in ["w v u w", "w v t s", "t s q", "w v t s u", "t s u w v"]:
             self.assertEqual(self.kinds(text), (False, False))
 
+    def test_a_walk_there_and_back(self):
+        net = net_of("a, b, c, d", "w a b, v b c, u c b, t b a, s c d, r d c")
+        for text in ["w v u t", "w v s r u t", "v u t w", "v s r u"]:
+            self.assertIs(is_ring(net, text.split()), False)
+            self.assertIs(is_path(net, text.split()), False)
+
     def test_by_names_of_the_arguments(self):
         self.assertIs(is_path(net=NET, walk=["w"]), True)
         self.assertIs(is_ring(net=NET, walk=["t", "s"]), True)

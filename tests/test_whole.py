@@ -39,10 +39,11 @@ CLASSES = {
     ("fractions", "Fraction"): {"": "top bottom=1", "plus": "other", "minus": "other", "times": "other",
                                 "over": "other", "under": "other", "same": "other", "sign": "", "shown": ""},
     ("ways", "Way"): {"": "name start goal high=None cost=None", "gain": "", "out": "amount", "at_turn": "turn"},
-    ("ways", "Growing"): {"": "name start goal rate high=None cost=None", "gain": "", "out": "amount", "at_turn": "turn"},
-    ("ways", "Leaking"): {"": "name start goal loss high=None cost=None", "gain": "", "out": "amount", "at_turn": "turn"},
-    ("ways", "Store"): {"": "name place loss high=None cost=None", "gain": "", "out": "amount", "at_turn": "turn"},
-    ("nets", "Net"): {"": "places ways", "names": "", "want": "place", "way": "name", "all_ways": "", "wanting": "wants"},
+    ("ways", "Growing"): {"": "name start goal rate high=None cost=None"},
+    ("ways", "Leaking"): {"": "name start goal loss high=None cost=None"},
+    ("ways", "Store"): {"": "name place loss high=None cost=None"},
+    ("nets", "Net"): {"": "places ways", "names": "", "want": "place", "way": "name", "all_ways": "",
+                      "wanting": "wants"},
     ("desk", "Desk"): {"": "", "say": "row", "net": "", "plan": ""},
 }
 
@@ -143,7 +144,8 @@ class Whole(unittest.TestCase):
             place = chance.choice(net.names())
             for other in [shuffled(chance, net), shuffled(chance, net)]:
                 self.assertEqual(looked_cheapest(other, cheapest(other)), looked_cheapest(net, cheapest(net)))
-                self.assertEqual(looked_most(other, place, most(other, place)), looked_most(net, place, most(net, place)))
+                wanted = looked_most(net, place, most(net, place))
+                self.assertEqual(looked_most(other, place, most(other, place)), wanted)
 
     def test_turns(self):
         net = net_of("corn, bread 1", "bake corn bread 1/2 - 1")
